@@ -1,0 +1,1 @@
+"""Machines and translations whose letters stand under conditions."""
