@@ -9,6 +9,23 @@ import unittest
 from guardwords import errors
 from tests.support import Case
 
+WORDS_OF_THE_DOCUMENT = """
+>>> from guardwords.comparing import compare
+>>> from guardwords.machines import takes
+>>> from guardwords.solver import first_letter
+>>> integers = ("integers",)
+>>> even = ("mod", 2, 0)
+>>> small = ("<", 0)
+>>> bad = ("and", ("not", even), ("not", small))
+>>> first_letter(integers, bad)
+1
+>>> all_good = (integers, 1, (0,), (0,), ((0, ("or", even, small), 0),))
+>>> no_bad = (integers, 2, (0,), (0,), ((0, ("not", bad), 0), (0, bad, 1)))
+>>> last_even = (integers, 2, (0,), (1,), ((0, ("true",), 0), (0, even, 1)))
+>>> (compare(all_good, no_bad), compare(all_good, last_even), takes(last_even, (7, -3, 4)))
+(None, (), True)
+"""
+
 LETTERS = """
 >>> from guardwords.letters import compared, is_letter, kind_at, part_at, words_compared
 >>> integers = ("integers",)
@@ -58,7 +75,90 @@ SETS = """
 ('pair', 'blue', 2)
 """
 
-EXAMPLES = (("letters", LETTERS), ("conditions", CONDITIONS), ("sets", SETS))
+SOLVER = """
+>>> from guardwords.solver import classes, differing, first_letter, implies, together, twin
+>>> even = ("mod", 2, 0)
+>>> small = ("<", 0)
+>>> (first_letter(integers, ("and", (">", 4), ("mod", 3, 1))), first_letter(integers, ("and", even, ("mod", 4, 1))))
+(7, None)
+>>> (implies(integers, ("mod", 4, 2), even), differing(integers, even, ("mod", 4, 0)), differing(integers, small, ("not", (">", -1))))
+(True, 2, None)
+>>> classes(integers, (even, small))[2]
+((False, True), ('integers', (-1, (True, False)), (), (0, (False,))))
+>>> tuple(truths for truths, letters in classes(integers, (even, small)))
+((True, False), (False, False), (False, True), (True, True))
+>>> (together(integers, ((">", 4), ("<", 9), even)), together(integers, ((">", 4), ("<", 9), even, ("mod", 4, 3))))
+((6, None), (None, (2, 3)))
+>>> (twin(integers, ("and", ("<", 5), ("mod", 3, 1)), 1000), twin(integers, ("and", ("<", 5), ("mod", 3, 1)), -1000))
+(7, -7)
+>>> first_letter(integers, ("is", "red"))
+raises BadCondition
+"""
+
+MACHINES = """
+>>> from guardwords.machines import check_machine, first_word, is_trap, states_behind, takes, trap, undetermined
+>>> last_even = (integers, 2, (0,), (1,), ((0, ("true",), 0), (0, even, 1)))
+>>> (states_behind(last_even, (7, -4)), takes(last_even, (7, -4)), takes(last_even, (10 ** 29 + 1,)), first_word(last_even))
+((0, 1), True, False, (0,))
+>>> (undetermined(last_even), trap(last_even))
+(('letter', 0, 0), None)
+>>> nothing = (integers, 2, (0,), (1,), ((0, small, 0), (0, ("and", even, ("mod", 4, 1)), 1)))
+>>> (first_word(nothing), trap(nothing), is_trap(nothing, (0, 1)), undetermined(nothing))
+(None, (0,), False, ('letter', 0, 0))
+>>> parity = (integers, 2, (0,), (0,), ((0, even, 0), (0, ("not", even), 1), (1, even, 1), (1, ("not", even), 0)))
+>>> (undetermined(parity), takes(parity, (1, 2, -1)))
+(None, True)
+>>> takes(last_even, (2, "red"))
+raises BadLetter
+>>> check_machine((integers, 1, (0,), (0,), ((0, ("first", even), 0),)))
+raises BadCondition
+"""
+
+FORMS = """
+>>> from guardwords.forms import determined, first_words, holds_against, least, partings
+>>> least(last_even)[:4]
+(('integers',), 2, (0,), (1,))
+>>> least(last_even)[4][0]
+(0, ('in', ('integers', (-1, (True, False)), (), (0, (False, True)))), 0)
+>>> tuple((i, j) for i, condition, j in least(last_even)[4])
+((0, 0), (0, 1), (1, 0), (1, 1))
+>>> (first_words(last_even), partings(last_even))
+(((), (0,)), (((),), ()))
+>>> least(all_good) == least(no_bad)
+True
+>>> (first_words(all_good), partings(all_good), holds_against(all_good, ((2,), (3, 4)), (((),), ())))
+(((), (1,)), (((),), ()), True)
+>>> (determined(nothing)[1], least(nothing)[1], least(nothing)[3])
+(2, 1, ())
+"""
+
+COMPARING = """
+>>> from guardwords.comparing import closes, compare, links, links_close, table, within
+>>> (compare(all_good, no_bad), compare(last_even, parity), within(all_good, parity), within(nothing, parity))
+(None, (), (-1,), None)
+>>> table(all_good, no_bad)
+(((0,), (0,)), ((), (1,)), ((), ()))
+>>> (closes(all_good, no_bad, (((), ()), ((), (1,)), ((0,), (0,)))), closes(all_good, no_bad, (((0,), (0,)), ((), (1,)))))
+(True, False)
+>>> tick = ("names", ("a",))
+>>> two = (tick, 2, (0,), (0, 1), ((0, ("true",), 1), (1, ("true",), 0)))
+>>> three = (tick, 3, (0,), (0, 1, 2), ((0, ("true",), 1), (1, ("true",), 2), (2, ("true",), 0)))
+>>> (len(table(two, three)), links(two, three))
+(6, (((0,), (0,)), ((1,), (1,)), ((0,), (2,)), ((1,), (0,))))
+>>> (links_close(two, three, links(two, three)), links_close(two, three, links(two, three)[:3]))
+(True, False)
+>>> compare(last_even, two)
+raises OtherKinds
+"""
+
+EXAMPLES = (("words_of_the_document", WORDS_OF_THE_DOCUMENT),
+            ("letters", LETTERS),
+            ("conditions", CONDITIONS),
+            ("sets", SETS),
+            ("solver", SOLVER),
+            ("machines", MACHINES),
+            ("forms", FORMS),
+            ("comparing", COMPARING))
 
 
 def questions(text):
@@ -93,7 +193,10 @@ class Examples(Case):
 
     def test_each_example_is_gone_through(self):
         counts = {name: len(questions(text)) for name, text in EXAMPLES}
-        self.assertEqual(counts, {"letters": 9, "conditions": 4, "sets": 12})
+        self.assertEqual(counts, {
+            "words_of_the_document": 12, "letters": 9, "conditions": 4, "sets": 12, "solver": 10, "machines": 10, "forms": 8,
+            "comparing": 10,
+        })
 
 
 if __name__ == "__main__":
