@@ -4,7 +4,7 @@ import unittest
 
 from guardwords.letters import compared
 from guardwords.sets import holds, letter_at, letters_before, letters_of, next_letter, size
-from tests.support import COLOURS, INTEGERS, NUMBERED, TAGGED, Case, Chance, inside, key, letters_near, span
+from tests.support import COLOURS, INTEGERS, NUMBERED, Case, Chance, inside, key, letters_near, span
 
 DOUBLED = ("pair", INTEGERS, INTEGERS)
 EITHER = ("either", (INTEGERS, COLOURS))
