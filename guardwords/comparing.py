@@ -1,20 +1,15 @@
 """Two machines beside each other: words that tell them apart, and tables that show that there are none."""
 
-from guardwords.dividing import Division
-from guardwords.errors import OtherKinds
-from guardwords.walking import Walker, conditions_of, explored, first_word_to
+from guardwords.coupling import walkers_of
+from guardwords.walking import explored, first_word_to
 
 
 class Couple:
     """Two machines of one kind, and the pairs of sets of states of the first and of the second one."""
 
     def __init__(self, first, second):
-        if first[0] != second[0]:
-            raise OtherKinds("the two machines do not have the same kind")
-        division = Division(first[0], conditions_of(first) + conditions_of(second))
-        self.firsts = division.firsts
-        self.first = Walker(first, division)
-        self.second = Walker(second, division)
+        self.first, self.second = walkers_of(first, second)
+        self.firsts = self.first.division.firsts
         self.start = (self.first.starts, self.second.starts)
 
     def behind(self, pair, number):

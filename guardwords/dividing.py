@@ -8,7 +8,7 @@ first letters.
 """
 
 from guardwords.conditions import INTEGER_FORMS, meets_number
-from guardwords.integers import has_integer, integer_set
+from guardwords.integers import has_integer, integer_set, near
 from guardwords.letters import integer_of_rank, integer_rank, steps_from
 from guardwords.membership import sets_along
 from guardwords.spans import span_of
@@ -18,7 +18,8 @@ class Division:
     """Conditions that fit a kind, and the classes into which they divide its letters.
 
     parts has the division of each kind to which a step leads, by the conditions on this part. places has a name for
-    each cell, and numbers the number of its class. firsts has the first letter of each class.
+    each cell, and numbers the number of its class. firsts has the first letter of each class. sets keeps the
+    letter sets that were asked for.
     """
 
     def __init__(self, kind, conditions):
@@ -34,6 +35,7 @@ class Division:
         heads = _heads(self.numbers)
         self.firsts = [_first_letter_at(self, self.places[at]) for at in heads]
         self.truths = {key: [column[at] for at in heads] for key, column in zip(asked, columns)}
+        self.sets = {}
 
     def met(self, condition):
         """For each class whether its letters meet the condition, one of those that divide."""
@@ -41,7 +43,14 @@ class Division:
 
     def letters_in(self, chosen):
         """The letter set of the letters of some classes; chosen tells of each class whether it is one of them."""
-        return _letter_set(self, [chosen[number] for number in self.numbers])
+        key = tuple(chosen)
+        if key not in self.sets:
+            self.sets[key] = _letter_set(self, [chosen[number] for number in self.numbers])
+        return self.sets[key]
+
+    def class_of(self, letter):
+        """The number of the class of the letter, one of the kind."""
+        return self.numbers[_cell_of(self, letter)]
 
 
 def _asked_below(conditions, step):
@@ -86,6 +95,23 @@ def _first_letter_at(division, place):
     if head == "maybe":
         return ("none",) if place is None else ("some", parts["some"].firsts[place])
     return place
+
+
+def _cell_of(division, letter):
+    """The number of the cell of the letter."""
+    head = division.kind[0]
+    parts = division.parts
+    if head == "names":
+        return division.kind[1].index(letter)
+    if head == "integers":
+        bound, period = division.span
+        return integer_rank(near(letter, bound, period))
+    if head == "pair":
+        return parts["first"].class_of(letter[1]) * len(parts["second"].firsts) + parts["second"].class_of(letter[2])
+    if head == "either":
+        before = sum([len(parts[case].firsts) for case in range(letter[1])])
+        return before + parts[letter[1]].class_of(letter[2])
+    return 0 if letter == ("none",) else 1 + parts["some"].class_of(letter[1])
 
 
 def _column(division, condition):

@@ -1,7 +1,6 @@
 """Determined machines over classes of letters, and the least ones among them."""
 
-from guardwords.dividing import Division
-from guardwords.walking import Walker, conditions_of, explored
+from guardwords.walking import Walker, explored, walker_of
 
 
 class Form:
@@ -18,17 +17,25 @@ class Form:
         self.words = words
 
 
+def form_from(division, start, follow, ended):
+    """The form whose states are what is found from the start: follow(thing, number) tells to what letters lead."""
+    search = explored(start, division.firsts, follow)
+    return Form(division, search.rows, [ended(thing) for thing in search.found], search.words)
+
+
 def determined_form(machine):
     """The determined form of the machine as a Form."""
-    division = Division(machine[0], conditions_of(machine))
-    walker = Walker(machine, division)
-    search = explored(walker.starts, division.firsts, walker.behind)
-    return Form(division, search.rows, [walker.has_end(states) for states in search.found], search.words)
+    walker = walker_of(machine)
+    return form_from(walker.division, walker.starts, walker.behind, walker.has_end)
 
 
 def least_form(machine):
     """The least form of the machine as a Form."""
-    form = determined_form(machine)
+    return reduced(determined_form(machine))
+
+
+def reduced(form):
+    """The form in which states that are not apart are one."""
     blocks = _blocks(form.rows, form.ends)
     # Blocks are numbered by their first states, so the words of these are the first ones that lead to the blocks.
     heads = [blocks.index(block) for block in range(max(blocks) + 1)]
@@ -65,3 +72,10 @@ def _steps(division, state, row):
     return [
         (state, ("in", division.letters_in([other == target for other in row])), target) for target in sorted(set(row))
     ]
+
+
+def walker_over_form(form):
+    """The form as a machine gone through by classes of letters."""
+    ends = tuple([state for state, end in enumerate(form.ends) if end])
+    moves = [[(row[number],) for row in form.rows] for number in range(len(form.division.firsts))]
+    return Walker(form.division, (0,), ends, moves)

@@ -1,6 +1,7 @@
 """The determined form and the least form of a machine, and the words that show how many states it needs."""
 
 from guardwords.forming import determined_form, least_form, machine_of
+from guardwords.pairing import parting_words
 from guardwords.walking import behind_letter
 
 
@@ -23,32 +24,8 @@ def partings(machine):
     """For each state i of the least form the partings of i and each j > i."""
     form = least_form(machine)
     many = len(form.rows)
-    words = _parting_words(form)
+    words = parting_words(form)
     return tuple([tuple([words[(i, j)] for j in range(i + 1, many)]) for i in range(many)])
-
-
-def _parting_words(form):
-    """The parting of each two states, the lesser one first."""
-    many = len(form.rows)
-    pairs = [(i, j) for i in range(many) for j in range(i + 1, many)]
-    words = {(i, j): () for i, j in pairs if form.ends[i] != form.ends[j]}
-    latest = words
-    while latest:
-        latest = _longer_partings(form, [pair for pair in pairs if pair not in words], latest)
-        words = {**words, **latest}
-    return words
-
-
-def _longer_partings(form, pairs, latest):
-    """The partings of those pairs that a letter leads to a pair whose parting was found latest."""
-    longer = {}
-    for i, j in pairs:
-        for letter, one, other in zip(form.division.firsts, form.rows[i], form.rows[j]):
-            below = (min(one, other), max(one, other))
-            if below in latest:
-                longer[(i, j)] = (letter,) + latest[below]
-                break
-    return longer
 
 
 def holds_against(machine, words, partings):

@@ -36,6 +36,15 @@ def integers_before(letters, number):
     return sum([1 for at in range(integer_rank(number)) if has_integer(letters, integer_of_rank(at))])
 
 
+def near(number, bound, period):
+    """The integer nearest to 0 that stands for this one where, beyond the bound, integers come back with the period."""
+    if abs(number) <= bound + period:
+        return number
+    # The integers come back on each side on its own.
+    nearest = bound + 1 + (abs(number) - bound - 1) % period
+    return nearest if number > 0 else -nearest
+
+
 def integer_set(met, bound, period):
     """The letter set of some integers in its one form.
 

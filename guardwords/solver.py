@@ -2,6 +2,7 @@
 
 from guardwords.conditions import check_condition, check_conditions
 from guardwords.dividing import Division
+from guardwords.integers import near
 from guardwords.letters import check_letter
 from guardwords.spans import span_of
 
@@ -80,17 +81,9 @@ def _drawn(kind, letter, bound, period):
     if head == "names" or letter == ("none",):
         return letter
     if head == "integers":
-        return _near(letter, bound, period)
+        return near(letter, bound, period)
     if head == "pair":
         return ("pair", _drawn(kind[1], letter[1], bound, period), _drawn(kind[2], letter[2], bound, period))
     if head == "either":
         return ("case", letter[1], _drawn(kind[1][letter[1]], letter[2], bound, period))
     return ("some", _drawn(kind[1], letter[1], bound, period))
-
-
-def _near(number, bound, period):
-    if abs(number) <= bound + period:
-        return number
-    # Beyond the bound the integers come back with the period, on each side on its own.
-    nearest = bound + 1 + (abs(number) - bound - 1) % period
-    return nearest if number > 0 else -nearest

@@ -1,11 +1,17 @@
 """Machines gone through by classes of letters, and searches in the order of words."""
 
 from guardwords.conditions import is_met
+from guardwords.dividing import Division
 
 
 def conditions_of(machine):
     """The conditions of the steps of the machine."""
     return [condition for state, condition, target in machine[4]]
+
+
+def pairs_by(machine, letter):
+    """The pairs of states, ascending, from the first of which the letter, one of the kind, leads to the second one."""
+    return sorted({(state, target) for state, condition, target in machine[4] if is_met(condition, letter)})
 
 
 def behind_letter(machine, states, letter):
@@ -16,20 +22,16 @@ def behind_letter(machine, states, letter):
 
 
 class Walker:
-    """A machine over the classes of a division by conditions among which are those of its steps.
+    """A machine over the classes of a division.
 
-    moves[number][state] has the states to which the letters of class `number` lead from the state.
+    moves[number][state] has, ascending, the states to which the letters of class `number` lead from the state.
     """
 
-    def __init__(self, machine, division):
+    def __init__(self, division, starts, ends, moves):
         self.division = division
-        self.starts = machine[2]
-        self.ends = machine[3]
-        self.moves = [[{} for _ in range(machine[1])] for _ in division.firsts]
-        for state, condition, target in machine[4]:
-            for number, truth in enumerate(division.met(condition)):
-                if truth:
-                    self.moves[number][state][target] = True
+        self.starts = starts
+        self.ends = ends
+        self.moves = moves
 
     def behind(self, states, number):
         """The set behind the states by a letter of the class."""
@@ -39,6 +41,22 @@ class Walker:
     def has_end(self, states):
         """Whether one of the states is an end."""
         return any(state in self.ends for state in states)
+
+
+def walker_over(machine, division):
+    """The machine over a division by conditions among which are those of its steps."""
+    targets = [[{} for _ in range(machine[1])] for _ in division.firsts]
+    for state, condition, target in machine[4]:
+        for number, truth in enumerate(division.met(condition)):
+            if truth:
+                targets[number][state][target] = True
+    moves = [[tuple(sorted(told)) for told in row] for row in targets]
+    return Walker(division, machine[2], machine[3], moves)
+
+
+def walker_of(machine):
+    """The machine over the division by the conditions of its own steps."""
+    return walker_over(machine, Division(machine[0], conditions_of(machine)))
 
 
 class Search:

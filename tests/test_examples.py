@@ -151,6 +151,61 @@ COMPARING = """
 raises OtherKinds
 """
 
+RUNS = """
+>>> from guardwords.runs import first_run, split_closes, split_table, two_runs, ways
+>>> (ways(last_even, (4, 6)), first_run(last_even, (4, 6)), first_run(last_even, (3,)), two_runs(last_even))
+(1, (0, 0, 1), None, None)
+>>> (split_table(last_even), split_closes(last_even, ((0, 1),)), split_closes(last_even, ()))
+(((0, 1),), True, False)
+>>> some_even = (integers, 2, (0,), (1,), ((0, ("true",), 0), (0, even, 1), (1, ("true",), 1)))
+>>> (two_runs(some_even), ways(some_even, (0, 0)), first_run(some_even, (0, 0)), split_table(some_even))
+((0, 0), 2, (0, 0, 1), ((0, 1), (1, 1)))
+>>> split_closes(some_even, ((0, 1), (1, 1)))
+False
+"""
+
+JOINING = """
+>>> from guardwords.joining import backwards, both_take, followed, not_taken, one_takes, repeated
+>>> one_even = (integers, 2, (0,), (1,), ((0, even, 1),))
+>>> (first_word(both_take(last_even, not_taken(parity))), first_word(not_taken(one_takes(all_good, last_even))))
+((1, 0), (1,))
+>>> (takes(repeated(one_even), ()), takes(repeated(one_even), (2, 4)), takes(followed(last_even, one_even), (3, 2, 8)))
+(True, True, True)
+>>> (takes(backwards(last_even), (2, 3)), takes(backwards(last_even), (3, 2)))
+(True, False)
+"""
+
+CONTINUING = """
+>>> from guardwords.continuing import beginnings, each_rest, rest, some_rest, verdict
+>>> (verdict(all_good, (2, -3)), verdict(all_good, (2, 3)), verdict(some_even, (5,)), verdict(some_even, (5, 6)))
+(((), (1,)), (None, ()), ((0,), ()), ((), None))
+>>> (takes(rest(last_even, (3,)), ()), takes(rest(last_even, (2,)), ()), first_word(rest(last_even, (3,))))
+(False, True, (0,))
+>>> (takes(some_rest(one_even, parity), (1,)), takes(each_rest(one_even, parity), ()), takes(each_rest(all_good, parity), ()))
+(False, True, False)
+>>> (takes(beginnings(one_even), ()), takes(beginnings(one_even), (2,)), takes(beginnings(one_even), (3,)))
+(True, True, False)
+"""
+
+ACTIONS = """
+>>> from guardwords.actions import action, actions, context, letter_classes, mergings, reset_word, turning_word
+>>> from guardwords.sets import letter_at
+>>> odd = ("not", even)
+>>> guarded = (integers, 2, (0,), (0, 1), ((0, even, 0), (0, odd, 1), (1, ("not", small), 1)))
+>>> (action(last_even, (3, 4)), action(parity, (1,)), action(guarded, ()))
+((1, 1), (1, 0), (0, 1, 2))
+>>> actions(last_even)
+(((), (0, 1)), ((0,), (1, 1)), ((1,), (0, 0)))
+>>> (context(last_even, (2,), (3,)), context(last_even, (2, 5), (3,)), context(guarded, (-2,), (2,)))
+(((), ()), None, ((1,), ()))
+>>> tuple(letter_at(integers, letters, 0) for letters in letter_classes(guarded))
+(0, 1, -1, -2)
+>>> (turning_word(parity), turning_word(last_even), turning_word(guarded))
+((1,), None, None)
+>>> (mergings(last_even), mergings(parity), reset_word(parity), reset_word(guarded))
+((((0,),), ()), ((None,), ()), None, (1, -1))
+"""
+
 EXAMPLES = (("words_of_the_document", WORDS_OF_THE_DOCUMENT),
             ("letters", LETTERS),
             ("conditions", CONDITIONS),
@@ -158,7 +213,11 @@ EXAMPLES = (("words_of_the_document", WORDS_OF_THE_DOCUMENT),
             ("solver", SOLVER),
             ("machines", MACHINES),
             ("forms", FORMS),
-            ("comparing", COMPARING))
+            ("comparing", COMPARING),
+            ("runs", RUNS),
+            ("joining", JOINING),
+            ("continuing", CONTINUING),
+            ("actions", ACTIONS))
 
 
 def questions(text):
@@ -195,7 +254,7 @@ class Examples(Case):
         counts = {name: len(questions(text)) for name, text in EXAMPLES}
         self.assertEqual(counts, {
             "words_of_the_document": 12, "letters": 9, "conditions": 4, "sets": 12, "solver": 10, "machines": 10, "forms": 8,
-            "comparing": 10,
+            "comparing": 10, "runs": 6, "joining": 5, "continuing": 5, "actions": 10,
         })
 
 
