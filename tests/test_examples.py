@@ -206,6 +206,65 @@ ACTIONS = """
 ((((0,),), ()), ((None,), ()), None, (1, -1))
 """
 
+COUNTING = """
+>>> from guardwords.counting import count, first_of_length, is_endless, lengths, next_word, word_at, words, words_before
+>>> spelled = (colours, 2, (0,), (0, 1), ((0, ("is", "red"), 1), (1, ("true",), 0)))
+>>> (count(spelled, 0), count(spelled, 3), count(last_even, 2), count(nothing, 2), is_endless(spelled), is_endless(one_even))
+(1, 2, None, 0, True, True)
+>>> tuple(words(spelled, many=4))
+((), ('red',), ('red', 'red'), ('red', 'blue'))
+>>> (word_at(last_even, 3), word_at(nothing, 0), first_of_length(last_even, 3))
+((4,), None, (0, 0, 0))
+>>> (next_word(spelled, ("red", "blue")), next_word(last_even, (1, 1)), words_before(spelled, ("blue", "red")), words_before(last_even, (0, 0)))
+(('red', 'red', 'red'), (1, 2), 4, None)
+>>> third = (tick, 3, (0,), (1,), ((0, ("true",), 1), (1, ("true",), 2), (2, ("true",), 0)))
+>>> (lengths(third), lengths(one_even))
+(('integers', (-1, (False,)), (), (0, (False, True, False))), ('integers', (-1, (False,)), (1,), (2, (False,))))
+"""
+
+GROWTH = """
+>>> from guardwords.growth import degree, doubling
+>>> letters_ab = ("names", ("a", "b"))
+>>> sorted_words = (letters_ab, 2, (0,), (0, 1), ((0, ("is", "a"), 0), (0, ("is", "b"), 1), (1, ("is", "b"), 1)))
+>>> (degree(sorted_words), doubling(sorted_words), degree(three), degree(nothing))
+(1, None, 0, 0)
+>>> (degree(spelled), doubling(spelled))
+(None, ((), ('red', 'red'), ('red', 'blue'), ()))
+>>> (degree(one_even), doubling(one_even), doubling(last_even))
+(None, None, ((), (1,), (-1,), (0,)))
+"""
+
+EXPRESSIONS = """
+>>> from guardwords.expressions import check_expression, derivative, derivatives, expression_classes, means, same_meaning, to_expression, to_machine
+>>> good = ("star", ("or", ("letter", even), ("letter", small)))
+>>> (means(integers, good, (2, -1)), means(integers, good, (2, 1)), to_machine(integers, good) == least(all_good))
+(True, False, True)
+>>> derivative(integers, ("then", ("letter", even), ("star", ("letter", small))), 4)
+('then', ('empty',), ('star', ('letter', ('<', 0))))
+>>> derivative(integers, ("then", ("star", ("letter", even)), ("letter", small)), 4)
+('or', ('then', ('then', ('empty',), ('star', ('letter', ('mod', 2, 0)))), ('letter', ('<', 0))), ('void',))
+>>> derivatives(integers, ("letter", even))
+(((), ('letter', ('mod', 2, 0))), ((0,), ('empty',)), ((1,), ('void',)))
+>>> (same_meaning(integers, good, ("star", ("letter", even))), same_meaning(integers, ("not", ("void",)), ("star", ("letter", ("true",)))))
+((-1,), None)
+>>> (len(expression_classes(integers, good)), means(integers, to_expression(last_even), (3, 4)))
+(4, True)
+>>> check_expression(integers, ("and", ("void",), ("letter", ("is", "a"))))
+raises BadCondition
+"""
+
+EQUATIONS = """
+>>> from guardwords.equations import first_failure, greatest_solution, least_solution, second_solution
+>>> one_way = (((("letter", even),), ("empty",)),)
+>>> open_way = (((("star", ("letter", even)),), ("empty",)),)
+>>> (second_solution(integers, one_way), second_solution(integers, open_way))
+(None, (0, (1,)))
+>>> (same_meaning(integers, least_solution(integers, open_way)[0], ("star", ("letter", even))), first_failure(integers, one_way, (("empty",),)))
+(None, (0, (0,)))
+>>> (means(integers, greatest_solution(integers, open_way)[0], (1, 3)), first_failure(integers, open_way, (("not", ("void",)),)))
+(True, None)
+"""
+
 EXAMPLES = (("words_of_the_document", WORDS_OF_THE_DOCUMENT),
             ("letters", LETTERS),
             ("conditions", CONDITIONS),
@@ -217,7 +276,11 @@ EXAMPLES = (("words_of_the_document", WORDS_OF_THE_DOCUMENT),
             ("runs", RUNS),
             ("joining", JOINING),
             ("continuing", CONTINUING),
-            ("actions", ACTIONS))
+            ("actions", ACTIONS),
+            ("counting", COUNTING),
+            ("growth", GROWTH),
+            ("expressions", EXPRESSIONS),
+            ("equations", EQUATIONS))
 
 
 def questions(text):
@@ -254,7 +317,8 @@ class Examples(Case):
         counts = {name: len(questions(text)) for name, text in EXAMPLES}
         self.assertEqual(counts, {
             "words_of_the_document": 12, "letters": 9, "conditions": 4, "sets": 12, "solver": 10, "machines": 10, "forms": 8,
-            "comparing": 10, "runs": 6, "joining": 5, "continuing": 5, "actions": 10,
+            "comparing": 10, "runs": 6, "joining": 5, "continuing": 5, "actions": 10, "counting": 8, "growth": 6,
+            "expressions": 9, "equations": 6,
         })
 
 
