@@ -74,7 +74,7 @@ def first_failure(kind, equations, expressions):
 
 
 def second_solution(kind, equations):
-    """None if there is one solution, otherwise the first unknown that differs and the first word only in the greatest."""
+    """None if there is one solution, otherwise the first unknown with two, and the first word only in the greatest."""
     _check(kind, equations, ())
     least = _least(equations)
     greatest = _greatest(equations)

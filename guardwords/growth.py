@@ -10,8 +10,8 @@ from guardwords.walking import Walker
 class Circles:
     """The states of a least form from which words are taken, and the circles on which they lie.
 
-    letters has for each state, by the states to which letters lead from it, how many letters do, None for endlessly many.
-    later has for each state the states to which words other than the empty one lead from it.
+    letters tells for each state, by the states to which letters lead from it, how many letters do, None for endlessly
+    many. later has for each state the states to which words other than the empty one lead from it.
     """
 
     def __init__(self, walker):
