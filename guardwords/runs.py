@@ -98,7 +98,7 @@ def _first_pairs(walker):
     """The pairs that each complete split table has whatever other pairs it has."""
     states = reached(targets_of(walker), walker.starts)
     behind = [pair for row in walker.moves for state in states for pair in _split(row[state])]
-    return sorted({pair: True for pair in _split(walker.starts) + behind})
+    return sorted({pair for pair in _split(walker.starts) + behind})
 
 
 def _pairs_behind(walker, p, q):
