@@ -11,6 +11,12 @@ def check_kinds(first, second):
         raise OtherKinds("the two machines do not have the same kind")
 
 
+def check_over(machine, kind):
+    """Raise OtherKinds if the machine is not over the kind."""
+    if machine[0] != kind:
+        raise OtherKinds("the machine is not over the kind that is asked for")
+
+
 def walkers_of(first, second):
     """The two machines over the division by the conditions of both; raises OtherKinds."""
     check_kinds(first, second)

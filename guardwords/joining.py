@@ -12,14 +12,14 @@ def both_take(first, second):
     many = second[1]
     pairs = [(p, q) for p in range(first[1]) for q in range(many)]
     moves = [
-        [_products(row[p], beside[q], many) for p, q in pairs] for row, beside in zip(one.moves, other.moves)
+        [products(row[p], beside[q], many) for p, q in pairs] for row, beside in zip(one.moves, other.moves)
     ]
-    starts = _products(one.starts, other.starts, many)
-    return trimmed(Walker(one.division, starts, _products(one.ends, other.ends, many), moves))
+    starts = products(one.starts, other.starts, many)
+    return trimmed(Walker(one.division, starts, products(one.ends, other.ends, many), moves))
 
 
-def _products(states, others, many):
-    """The numbers of the pairs of one of the states and one of the others, of which there are so many."""
+def products(states, others, many):
+    """The numbers of the pairs of one of the states and one of the others: each number is below many."""
     return tuple([p * many + q for p in states for q in others])
 
 

@@ -79,10 +79,11 @@ def words_compared(kind, first, second):
     """-1, 0 or 1, as the first word is before, is, or is behind the second one."""
     check_word(kind, first)
     check_word(kind, second)
-    return _order(_word_rank(kind, first), _word_rank(kind, second))
+    return _order(word_rank(kind, first), word_rank(kind, second))
 
 
-def _word_rank(kind, word):
+def word_rank(kind, word):
+    """What can be compared by < to order words over the kind."""
     return (len(word), [rank(kind, letter) for letter in word])
 
 

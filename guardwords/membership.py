@@ -1,7 +1,10 @@
 """Letter sets in their one form: what they have in them, and the kinds of which they are letter sets."""
 
+from math import lcm
+
 from guardwords.integers import has_integer, next_integer
-from guardwords.letters import rank
+from guardwords.letters import integer_of_rank, integer_rank, rank
+from guardwords.spans import set_span
 
 
 def contains(letters, letter):
@@ -45,6 +48,48 @@ def first_case(sets, case):
 def some_letter(part):
     """The letter of a "maybe" with this part; None for None."""
     return None if part is None else ("some", part)
+
+
+def first_shared(kind, one, other):
+    """The first letter that is in both letter sets of the kind, or None if there is none."""
+    head = kind[0]
+    if head == "names":
+        names = [name for name in one[1] if name in other[1]]
+        return names[0] if names else None
+    if head == "integers":
+        return _first_shared_integer(one, other)
+    if head == "pair":
+        return _first_shared_pair(kind, one[1], other[1])
+    if head == "either":
+        for case, inner in enumerate(kind[1]):
+            part = first_shared(inner, one[1][case], other[1][case])
+            if part is not None:
+                return ("case", case, part)
+        return None
+    return ("none",) if one[1] and other[1] else some_letter(first_shared(kind[1], one[2], other[2]))
+
+
+def _first_shared_integer(one, other):
+    bound, period = set_span(one)
+    reach, length = set_span(other)
+    furthest = max(bound, reach) + lcm(period, length)
+    for at in range(integer_rank(-furthest) + 1):
+        number = integer_of_rank(at)
+        if has_integer(one, number) and has_integer(other, number):
+            return number
+    return None
+
+
+def _first_shared_pair(kind, rows, others):
+    pairs = []
+    for firsts, row in rows:
+        for beside, told in others:
+            second = first_shared(kind[2], row, told)
+            first = None if second is None else first_shared(kind[1], firsts, beside)
+            if first is not None:
+                pairs.append(("pair", first, second))
+    # Each first part is in one row of each set, so no two of the pairs have the same one.
+    return min(pairs, key=lambda pair: rank(kind[1], pair[1])) if pairs else None
 
 
 def sets_along(letters, step):

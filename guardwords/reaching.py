@@ -62,6 +62,18 @@ def useful_targets(walker):
     ]
 
 
+def passed(many, starts, ends, ways):
+    """The ascending list of the states, of so many, that lie on a way from a start to an end.
+
+    ways are pairs of states.
+    """
+    targets = [[] for _ in range(many)]
+    for state, target in ways:
+        targets[state].append(target)
+    ending = reached(turned(targets), ends)
+    return [state for state in reached(targets, starts) if state in ending]
+
+
 def reached_later(targets):
     """For each state the ascending tuple of the states to which words other than the empty one lead from it."""
     return [reached(targets, row) for row in targets]

@@ -1,5 +1,6 @@
 """Letter sets: made from conditions, joined, counted and gone through in the order of their letters."""
 
+from guardwords.composing import any_of
 from guardwords.conditions import check_condition
 from guardwords.dividing import Division
 from guardwords.integers import integers_before, is_finite, next_integer
@@ -39,14 +40,14 @@ def condition_of(kind, letters):
     """A condition without "in" that exactly the letters of the set meet."""
     head = kind[0]
     if head == "names":
-        return _any_of([("is", name) for name in letters[1]])
+        return any_of([("is", name) for name in letters[1]])
     if head == "integers":
         return _integers_condition(letters)
     if head == "pair":
-        return _any_of([_row_condition(kind, firsts, row) for firsts, row in letters[1]])
+        return any_of([_row_condition(kind, firsts, row) for firsts, row in letters[1]])
     if head == "either":
         told = [condition_of(inner, part) for inner, part in zip(kind[1], letters[1])]
-        return _any_of([("case", case, condition) for case, condition in enumerate(told)])
+        return any_of([("case", case, condition) for case, condition in enumerate(told)])
     some = ("some", condition_of(kind[1], letters[2]))
     return ("or", ("none",), some) if letters[1] else some
 
@@ -61,7 +62,7 @@ def _integers_condition(letters):
     # Read upwards, the integers below go through their truths backwards.
     beneath = _tail(("<", low + 1), low - len(below) + 1, below[::-1])
     members = [("=", number) for number in letters[2]]
-    return _any_of(beneath + members + _tail((">", high - 1), high, above))
+    return any_of(beneath + members + _tail((">", high - 1), high, above))
 
 
 def _tail(limit, start, truths):
@@ -70,17 +71,7 @@ def _tail(limit, start, truths):
         return [limit]
     many = len(truths)
     remainders = [("mod", many, (start + k) % many) for k, truth in enumerate(truths) if truth]
-    return [("and", limit, _any_of(remainders))] if remainders else []
-
-
-def _any_of(conditions):
-    """A condition that is met if one of these is. It is split in halves, so that it is not deep even for many."""
-    if not conditions:
-        return ("false",)
-    if len(conditions) == 1:
-        return conditions[0]
-    middle = len(conditions) // 2
-    return ("or", _any_of(conditions[:middle]), _any_of(conditions[middle:]))
+    return [("and", limit, any_of(remainders))] if remainders else []
 
 
 def size(kind, letters):
@@ -187,6 +178,6 @@ def projected(kind, letters, path):
     """The letter set of what the path leads to in the letters of the set in which it is there."""
     for step in path:
         below = dict(steps_from(kind))[step]
-        letters = letters_of(below, _any_of([("in", part) for part in sets_along(letters, step)]))
+        letters = letters_of(below, any_of([("in", part) for part in sets_along(letters, step)]))
         kind = below
     return letters

@@ -10,6 +10,11 @@ from guardwords.spans import span_of
 def first_letter(kind, condition):
     """The first letter that meets the condition, or None if no letter meets it."""
     check_condition(kind, condition)
+    return first_met(kind, condition)
+
+
+def first_met(kind, condition):
+    """The same for a condition that fits."""
     division = Division(kind, [condition])
     return _first_of(division, division.met(condition))
 

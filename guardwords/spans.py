@@ -19,11 +19,12 @@ def _span(condition):
     if head == "mod":
         return (0, condition[1])
     if head == "in":
-        return _set_span(condition[1])
+        return set_span(condition[1])
     return span_of([inner for inner in condition[1:] if isinstance(inner, tuple)])
 
 
-def _set_span(letters):
+def set_span(letters):
+    """The span of a letter set."""
     head = letters[0]
     if head == "names":
         return (0, 1)
@@ -32,10 +33,10 @@ def _set_span(letters):
         high, above = letters[3]
         return (max([-low, high] + [abs(number) for number in letters[2]]), lcm(len(below), len(above)))
     if head == "pairs":
-        return _joined([_set_span(part) for row in letters[1] for part in row])
+        return _joined([set_span(part) for row in letters[1] for part in row])
     if head == "either":
-        return _joined([_set_span(part) for part in letters[1]])
-    return _set_span(letters[2])
+        return _joined([set_span(part) for part in letters[1]])
+    return set_span(letters[2])
 
 
 def _joined(spans):

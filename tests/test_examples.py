@@ -265,6 +265,136 @@ EQUATIONS = """
 (True, None)
 """
 
+TERMS = """
+>>> from guardwords.conditions import meets
+>>> from guardwords.solver import first_letter
+>>> from guardwords.terms import before, check_term, given_letters, gives, is_plain, put_behind, there
+>>> shift = ("pair", ("read", ("first",)), ("plus", ("second",), 3))
+>>> inner = ("read", ("second", "some"))
+>>> (gives(shift, ("pair", "red", 4)), gives(inner, ("pair", "red", ("some", 2))), gives(inner, ("pair", "red", ("none",))))
+(('pair', 'red', 7), 2, None)
+>>> first_letter(tagged, there(tagged, inner))
+('pair', 'red', ('some', 0))
+>>> small_rest = before(numbered, integers, ("minus", ("second",), 5), (">", 2))
+>>> (meets(numbered, small_rest, ("pair", "red", 2)), meets(numbered, small_rest, ("pair", "red", 3)))
+(True, False)
+>>> (gives(put_behind(shift, ("read", ("second",))), ("pair", "blue", 1)), put_behind(("case", 0, ("read", ())), ("read", (1,))))
+(4, None)
+>>> stamped = ("pair", ("always", "red"), ("plus", (), 1))
+>>> (is_plain(shift), is_plain(stamped), given_letters(integers, numbered, stamped, even)[1][0][1])
+(False, True, ('integers', (-1, (True, False)), (), (0, (False, True))))
+>>> check_term(integers, numbered, ("pair", ("read", ()), ("read", ())))
+raises BadTerm
+"""
+
+PARTING = """
+>>> from guardwords.parting import constant, part
+>>> doubled = ("pair", integers, integers)
+>>> (part(integers, ("true",), integers, ("read", ()), ("minus", (), 0)), part(integers, ("=", 0), integers, ("read", ()), ("minus", (), 0)))
+(1, None)
+>>> part(doubled, ("true",), integers, ("read", ("first",)), ("read", ("second",)))
+('pair', 0, 1)
+>>> part(doubled, ("second", ("=", 0)), integers, ("read", ("first",)), ("plus", ("second",), 0))
+('pair', 1, 0)
+>>> (constant(integers, ("=", 4), integers, ("plus", (), 1)), constant(integers, even, integers, ("plus", (), 1)), constant(integers, ("false",), integers, ("always", 3)))
+(5, None, None)
+"""
+
+TRANSLATIONS = """
+>>> from guardwords.translations import behind, check_translation, domain, image, inverse, restricted, results, source
+>>> marked = (integers, numbered, 2, (0,), ((0, ()), (1, (("pair", "blue", 0),))), ((0, even, (stamped,), 0), (0, odd, (), 1)))
+>>> (results(marked, (4,)), results(marked, (4, 3)), results(marked, (3, 4)))
+(((('pair', 'red', 5),),), ((('pair', 'red', 5), ('pair', 'blue', 0)),), ())
+>>> (takes(domain(marked), (4, 3)), takes(domain(marked), (3, 4)), results(restricted(marked, last_even), (4, 3)))
+(True, False, ())
+>>> seconds = (numbered, integers, 1, (0,), ((0, ()),), ((0, ("true",), (("read", ("second",)),), 0),))
+>>> (results(behind(marked, seconds), (4, -2, 1)), first_word(inverse(seconds, last_even)))
+(((5, -1, 0),), (('pair', 'red', 0),))
+>>> (takes(image(marked, last_even), (("pair", "red", 5),)), takes(image(marked, last_even), (("pair", "red", 4),)), source(marked, last_even, (("pair", "red", 5),)))
+(True, False, (4,))
+>>> twin_letters = (integers, integers, 1, (0,), ((0, ()),), ((0, ("true",), (("read", ()), ("read", ())), 0),))
+>>> image(twin_letters, last_even)
+raises NotPlain
+>>> check_translation((tagged, integers, 1, (0,), ((0, ()),), ((0, ("first", ("is", "red")), (inner,), 0),)))
+raises Unread
+"""
+
+AGREEMENT = """
+>>> from guardwords.agreement import check_delays, delays, double_steps, ends_together
+>>> late = (integers, integers, 2, (0,), ((1, (7,)),), ((0, ("=", 7), (), 1), (1, ("=", 7), (("read", ()),), 1)))
+>>> soon = (integers, integers, 2, (0,), ((1, ()),), ((0, even, (("read", ()),), 1), (0, odd, (("always", 7),), 1), (1, ("true",), (("read", ()),), 1)))
+>>> (results(late, (7, 7)), results(soon, (7, 7)), double_steps(late, soon, 0, 0), ends_together(late, soon, 0, 0), ends_together(late, soon, 0, 1))
+(((7, 7),), ((7, 7),), ((0, 1, 7),), (7,), (7,))
+>>> delays(late, soon)
+(((0, 0, (0, ())), (1, 1, (1, (7,)))), ())
+>>> (check_delays(late, soon, (((1, 1, (1, (7,))), (0, 0, (0, ()))), ())), check_delays(late, soon, (((0, 0, (0, ())),), ((1, 1),))))
+(True, False)
+>>> held = (integers, integers, 2, (0,), ((1, ()),), ((0, ("true",), (), 1), (1, even, (("read", ()),), 1)))
+>>> evens_only = (integers, integers, 1, (0,), ((0, ()),), ((0, even, (("read", ()),), 0),))
+>>> (delays(held, held), delays(held, soon), delays(late, evens_only))
+((((0, 0, (0, ())), (1, 1, (0, ()))), ()), None, ((), ((0, 0),)))
+"""
+
+DIFFERENCES = """
+>>> from guardwords.differences import disagreement, same, second_result
+>>> (disagreement(late, soon), disagreement(held, soon), second_result(held), same(late, soon))
+(None, (0,), None, (0,))
+>>> guess = (integers, integers, 1, (0,), ((0, ()),), ((0, even, (("read", ()),), 0), (0, (">", 3), (("always", 4),), 0)))
+>>> (second_result(guess), results(guess, (6,)), disagreement(guess, guess))
+((6,), ((4,), (6,)), (6,))
+>>> same(late, guess)
+raises NotSingle
+"""
+
+LEADING = """
+>>> from guardwords.leading import check_lead, lead_table, leads, safe
+>>> odd_seconds = (numbered, 1, (0,), (0,), ((0, ("second", odd), 0),))
+>>> (leads(marked, last_even, odd_seconds), leads(marked, parity, odd_seconds), lead_table(marked, last_even, odd_seconds))
+(None, None, ((0, 0, (0,)), (0, 1, (0,)), (1, 0, (0,))))
+>>> (leads(marked, one_even, odd_seconds), leads(marked, not_taken(parity), odd_seconds), takes(safe(marked, odd_seconds), (2, 3)))
+(None, (1,), False)
+>>> check_lead(marked, last_even, odd_seconds, ((0, 0, (0,)), (0, 1, (0,))))
+False
+"""
+
+WRITING = """
+>>> from guardwords.writing import certain, doubt, written
+>>> (certain(late, ()), certain(late, (7, 7)), certain(late, (3,)), certain(soon, ()), certain(soon, (3,)))
+((7,), (7, 7), None, (), (7,))
+>>> (doubt(soon, ()), doubt(soon, (3,)))
+((((0,), (0,)), ((1,), (7,))), (((3,), (7,)), None))
+>>> (tuple(written(late, (7, 7))), tuple(written(late, (7, 3))))
+(((7,), (), (7,)), ((7,), ()))
+"""
+
+DESKS = """
+>>> from guardwords.desks import Desk
+>>> desk = Desk()
+>>> desk.put("good", ("machine", all_good))
+>>> desk.put("rest", ("other", "good"))
+>>> desk.put("mark", ("translation", marked))
+>>> desk.put("kept", ("restricted", "mark", "good"))
+>>> (desk.least("rest") == least(not_taken(all_good)), desk.role("kept")[3], desk.weight("kept"), desk.users("good"))
+(True, True, 3, ('kept', 'rest'))
+>>> (desk.results("kept", (4, 3)), desk.results("kept", (4, -3)), desk.takes("rest", (4, 3)))
+((), ((('pair', 'red', 5), ('pair', 'blue', 0)),), True)
+>>> desk.put("good", ("expression", integers, ("star", ("letter", even))))
+>>> (desk.compare("good", "rest"), desk.results("kept", (4, -3)), desk.least("good") == least(all_good))
+((), (), False)
+>>> desk.put("good", ("domain", "kept"))
+raises Circle
+>>> desk.put("good", ("translation", marked))
+raises InUse
+>>> desk.put("deep", ("both", "rest", "mark"))
+raises WrongUse
+>>> (desk.undo(many=2), tuple(desk), len(desk), "kept" in desk)
+(('good', 'kept'), ('good', 'mark', 'rest'), 3, False)
+>>> (desk.log[2][:2], desk.takes("good", (-3,)))
+(('put', 'mark'), True)
+>>> desk.drop("good")
+raises InUse
+"""
+
 EXAMPLES = (("words_of_the_document", WORDS_OF_THE_DOCUMENT),
             ("letters", LETTERS),
             ("conditions", CONDITIONS),
@@ -280,7 +410,15 @@ EXAMPLES = (("words_of_the_document", WORDS_OF_THE_DOCUMENT),
             ("counting", COUNTING),
             ("growth", GROWTH),
             ("expressions", EXPRESSIONS),
-            ("equations", EQUATIONS))
+            ("equations", EQUATIONS),
+            ("terms", TERMS),
+            ("parting", PARTING),
+            ("translations", TRANSLATIONS),
+            ("agreement", AGREEMENT),
+            ("differences", DIFFERENCES),
+            ("leading", LEADING),
+            ("writing", WRITING),
+            ("desks", DESKS))
 
 
 def questions(text):
@@ -318,7 +456,8 @@ class Examples(Case):
         self.assertEqual(counts, {
             "words_of_the_document": 12, "letters": 9, "conditions": 4, "sets": 12, "solver": 10, "machines": 10, "forms": 8,
             "comparing": 10, "runs": 6, "joining": 5, "continuing": 5, "actions": 10, "counting": 8, "growth": 6,
-            "expressions": 9, "equations": 6,
+            "expressions": 9, "equations": 6, "terms": 13, "parting": 6, "translations": 10, "agreement": 9,
+            "differences": 5, "leading": 5, "writing": 4, "desks": 16,
         })
 
 

@@ -17,7 +17,8 @@ LIBRARY = {
 }
 CALLED = {
     "len", "range", "enumerate", "zip", "min", "max", "sum", "abs", "sorted", "reversed", "int", "str", "bool", "list",
-    "tuple", "dict", "set", "isinstance", "repr", "any", "all", "divmod", "super", "ValueError",
+    "tuple", "dict", "set", "isinstance", "repr", "any", "all", "divmod", "super", "ValueError", "classmethod",
+    "property", "iter",
 }
 METHODS = {
     "append", "clear", "copy", "count", "endswith", "extend", "find", "get", "index", "insert", "items", "join", "keys",
