@@ -1,4 +1,4 @@
-"""Conditions on integers, and letter sets of integers, moved along a line: y is sign * x + n, with a sign of 1 or -1."""
+"""Conditions on integers, and letter sets of integers, moved along a line: y is sign * x + n; the sign is 1 or -1."""
 
 from guardwords.integers import has_integer, integer_set
 from guardwords.spans import set_span
