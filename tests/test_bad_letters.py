@@ -4,12 +4,15 @@ import unittest
 
 from guardwords.conditions import meets
 from guardwords.continuing import rest, verdict
+from guardwords.desks import Desk
 from guardwords.errors import BadCondition, BadLetter
 from guardwords.letters import compared, is_letter, words_compared
 from guardwords.machines import states_behind, takes
 from guardwords.runs import first_run, ways
 from guardwords.sets import holds, letters_of
 from guardwords.solver import twin
+from guardwords.translations import results
+from guardwords.writing import certain, doubt, written
 from tests.support import COLOURS, INTEGERS, NUMBERED, TAGGED, Case, Chance
 
 TRUE = ("true",)
@@ -41,6 +44,16 @@ WORD_CALLS = {
     "rest": lambda kind, word: rest(everything(kind), word),
     "verdict": lambda kind, word: verdict(everything(kind), word),
     "verdict, no starts": lambda kind, word: verdict((kind, 1, (), (), ()), word),
+    "results": lambda kind, word: results(copying(kind), word),
+    "results, no starts": lambda kind, word: results((kind, kind, 1, (), (), ()), word),
+    "certain": lambda kind, word: certain(copying(kind), word),
+    "certain, no ends": lambda kind, word: certain((kind, kind, 1, (0,), (), ()), word),
+    "doubt": lambda kind, word: doubt(copying(kind), word),
+    "doubt, no steps": lambda kind, word: doubt((kind, kind, 1, (0,), ((0, ()),), ()), word),
+    "written": lambda kind, word: tuple(written(copying(kind), word)),
+    "written, its first element": lambda kind, word: next(written((kind, kind, 1, (), (), ()), word), None),
+    "takes of a desk": lambda kind, word: desk_of(kind).takes("a", word),
+    "results of a desk": lambda kind, word: desk_of(kind).results("t", word),
 }
 LETTER_CALLS = {
     "compared, first": lambda kind, letter: compared(kind, letter, GOOD[kind][0]),
@@ -55,6 +68,14 @@ LETTER_CALLS = {
 
 def everything(kind):
     return (kind, 2, (0,), (0, 1), ((0, TRUE, 0), (0, TRUE, 1)))
+
+
+def copying(kind):
+    return (kind, kind, 1, (0,), ((0, ()),), ((0, TRUE, (("read", ()),), 0),))
+
+
+def desk_of(kind):
+    return Desk.made((("m", ("machine", everything(kind))), ("t", ("translation", copying(kind))), ("a", ("both", "m", "m"))))
 
 
 def exchanged(letter):
