@@ -41,16 +41,16 @@ class Writing:
 
     def machine(self, kind, starts):
         """The machine with these starts, without silent steps: what comes behind them is put before them."""
-        silent = [[] for _ in range(self.many)]
+        at_once = [[] for _ in range(self.many)]
         for state, target in self.silent:
-            silent[state].append(target)
-        letters = [[] for _ in range(self.many)]
+            at_once[state].append(target)
+        reading = [[] for _ in range(self.many)]
         for state, condition, target in self.letters:
-            letters[state].append((condition, target))
-        behind = [reached(silent, (state,)) for state in range(self.many)]
+            reading[state].append((condition, target))
+        behind = [reached(at_once, (state,)) for state in range(self.many)]
         steps = [
             (state, condition, target)
-            for state, told in enumerate(behind) for at in told for condition, target in letters[at]
+            for state, told in enumerate(behind) for at in told for condition, target in reading[at]
         ]
         ends = [state for state, told in enumerate(behind) if any([at in self.ends for at in told])]
         return trimmed_machine(kind, self.many, starts, ends, steps)

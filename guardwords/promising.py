@@ -24,7 +24,7 @@ class Promise:
     def _some_results(self, taken):
         """For each state some word that is written from it to an end, or None if there is none."""
         told = [words[0] if words else None for words in self.ends]
-        for _ in told:
+        for _ in range(len(told)):
             for (state, condition, terms, target), letter in taken:
                 if told[state] is None and told[target] is not None:
                     told[state] = given_by(terms, letter) + told[target]

@@ -75,6 +75,18 @@ class Disagreement(Drawn):
         self.both_ways(front, rear[:5] + (((0, ("=", 5), (), 1), (1, ("=", 5), (READ,), 2)),), None)
         self.both_ways(front, (INTEGERS, INTEGERS, 3, (0,), ((2, (3,)),), ((0, ("or", ("=", 3), ("=", 8)), (), 1), (1, ODD, (), 2))), (8, 1))
 
+    def test_what_is_left_over_beside_terms_that_part(self):
+        # The first letter of the first step tells nothing; a later one parts, or leaves another letter over.
+        line = ((1, TRUE, (("always", 7),), 2),)
+        first = (INTEGERS, INTEGERS, 3, (0,), ((2, ()),), ((0, TRUE, (READ,), 1),) + line)
+        second = (INTEGERS, INTEGERS, 3, (0,), ((2, ()),), ((0, TRUE, (("minus", (), 0), ("always", 7)), 1), (1, TRUE, (), 2)))
+        self.both_ways(first, second, (1, 0))
+        for terms, wanted in (((READ, ("plus", (), 7)), (1, 0)), ((READ, ("always", 7)), None), ((("always", 0), ("always", 7)), (1, 0)),
+                              ((READ, ("minus", (), 7)), (1, 0)), ((READ, ("plus", (), 8)), (0, 0))):
+            self.both_ways(first, second[:5] + (((0, TRUE, terms, 1), (1, TRUE, (), 2)),), wanted)
+        behind_five = second[:5] + (((0, ("or", ("=", 0), (">", 5)), (READ, ("plus", (), 7)), 1), (1, TRUE, (), 2)),)
+        self.both_ways(first, behind_five, (6, 0))
+
     def test_results_that_differ_in_their_length_alone(self):
         fives = one_state((TRUE, (("always", 5),)))
         self.both_ways(fives, one_state((TRUE, (("always", 5), ("always", 5)))), (0,))

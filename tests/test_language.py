@@ -76,6 +76,15 @@ def called_name(node):
     return node.func.id if isinstance(node, ast.Call) and isinstance(node.func, ast.Name) else None
 
 
+def iterated(node):
+    """What a loop over this iterates over."""
+    if called_name(node) in ("enumerate", "zip", "reversed"):
+        return [part for argument in node.args for part in iterated(argument)]
+    if isinstance(node, ast.Call) and isinstance(node.func, ast.Attribute) and node.func.attr in ("items", "keys", "values"):
+        return iterated(node.func.value)
+    return [node]
+
+
 class Language(unittest.TestCase):
     def each(self, wanted):
         for path in FILES:
@@ -256,6 +265,34 @@ class Language(unittest.TestCase):
             for inner in [part for row in node.body for part in ast.walk(row)]:
                 if isinstance(inner, ast.Call) and isinstance(inner.func, ast.Attribute) and inner.func.attr in modifying:
                     self.assertNotIn(ast.dump(inner.func.value), over, (name, node.lineno))
+
+    def test_items_of_what_is_iterated_are_not_assigned(self):
+        for name, node in self.each(ast.For):
+            over = {ast.dump(part) for part in iterated(node.iter)}
+            for inner in [part for row in node.body for part in ast.walk(row)]:
+                if isinstance(inner, ast.Subscript) and not isinstance(inner.ctx, ast.Load):
+                    self.assertNotIn(ast.dump(inner.value), over, (name, node.lineno))
+
+    def test_desk_defines_what_the_interface_lists(self):
+        listed = {
+            "put", "drop", "undo", "made", "definition", "role", "weight", "users", "least", "takes", "results", "compare", "same", "leads",
+            "log", "__len__", "__iter__", "__contains__", "__init__",
+        }
+        desk = [node for _, node in self.each(ast.ClassDef) if node.name == "Desk"][0]
+        found = {node.name: [told.id for told in node.decorator_list] for node in desk.body if isinstance(node, ast.FunctionDef)}
+        self.assertLessEqual(listed, set(found))
+        self.assertEqual({name: told for name, told in found.items() if told}, {"made": ["classmethod"], "log": ["property"]})
+
+    def test_interface_is_defined_in_its_files(self):
+        listed = {
+            "terms": "check_term gives is_plain there before given_letters put_behind", "parting": "part constant",
+            "translations": "check_translation results domain restricted inverse behind image source",
+            "agreement": "double_steps ends_together delays check_delays", "differences": "disagreement second_result same",
+            "leading": "leads lead_table check_lead safe", "writing": "certain doubt written", "desks": "Desk",
+        }
+        for stem, names in listed.items():
+            defined = {node.name for node in parsed(PACKAGE / (stem + ".py")).body if isinstance(node, (ast.FunctionDef, ast.ClassDef))}
+            self.assertLessEqual(set(names.split()), defined)
 
     def test_lambdas_on_one_line_have_different_names(self):
         lines = {}

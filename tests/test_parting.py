@@ -92,6 +92,10 @@ class Parts(Case):
             (("and", ("second", ("=", 5)), ("first", ("and", (">", 4), ("mod", 3, 2)))), FIRST, SECOND, ("pair", 8, 5)),
             (TRUE, ("plus", ("first",), 20), ("plus", ("second",), 20), ("pair", 0, 1)),
             (TRUE, ("plus", ("first",), 1), ("minus", ("second",), 2), ("pair", 0, 0)),
+            (TRUE, FIRST, ("minus", ("second",), 0), ("pair", 0, 1)), (("second", ("=", 3)), ("minus", ("first",), 0), SECOND, ("pair", 0, 3)),
+            (("and", ("second", ("=", 3)), ("first", ("<", -2))), ("minus", ("first",), 0), SECOND, ("pair", -4, 3)),
+            (("and", ("second", ("=", 3)), ("first", (">", 2))), ("minus", ("first",), 0), SECOND, ("pair", 3, 3)),
+            (("and", ("first", ("=", -3)), ("second", (">", 2))), FIRST, ("minus", ("second",), 0), ("pair", -3, 4)),
             (TRUE, ("plus", ("first",), 1), ("minus", ("second",), 1), ("pair", 0, 1)),
         ):
             self.parts(DOUBLED, condition, INTEGERS, one, two, wanted, 9)
